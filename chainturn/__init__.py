@@ -1,0 +1,1 @@
+"""Chainturn: hard questions turned into one another."""
