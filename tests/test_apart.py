@@ -3,9 +3,15 @@
 import copy
 import unittest
 
+from chainturn.cases import shows, tried
 from chainturn.clauses import clauses_hold, right
+from chainturn.errors import ChainError
+from chainturn.naming import back_naming, forth_naming, turn_naming
 from chainturn.reading import read, shown
+from chainturn.splitting import back_splitting, forth_splitting, turn_splitting
+from chainturn.webs import cover_holds, friends_hold, others, sets_hold, strangers_hold
 from chainturn.wishes import parts, value, wish_holds
+from helping import great_or
 
 A = ("name", 0)
 FORMULA = ("or", ("and", A, ("not", ("name", 1))), ("name", 2))
@@ -25,10 +31,21 @@ def nots(steps):
     return formula
 
 
+def lists_within(thing):
+    found = [thing] if isinstance(thing, list) else []
+    if isinstance(thing, (list, tuple)):
+        for part in thing:
+            found.extend(lists_within(part))
+    return found
+
+
 class HandedIn(unittest.TestCase):
     def unchanged(self, deed, *handed):
         before = copy.deepcopy(handed)
-        deed(*handed)
+        try:
+            deed(*handed)
+        except ChainError:
+            pass
         self.assertEqual(before, handed)
 
     def test_wishes(self):
@@ -48,6 +65,31 @@ class HandedIn(unittest.TestCase):
             question = (word, 2, [(1, 2, 2), (-1, 2, 2), (1, 2, 2)])
             for answer in ([], [True], [True, False], [False, True], [True, True, True]):
                 self.unchanged(clauses_hold, question, answer)
+
+    def test_turnings(self):
+        wish = ("wish", 3, FORMULA)
+        clauses = ("clauses", 3, [(1, -2, 3, 3, 2), (1,), (-2, 3)])
+        for turn, forth, back, question in [(turn_naming, forth_naming, back_naming, wish),
+                                            (turn_splitting, forth_splitting, back_splitting, clauses)]:
+            led = forth(question, [True, True, True])
+            self.unchanged(turn, question)
+            self.unchanged(forth, question, [True, True, True])
+            self.unchanged(forth, question, [False, True, False])
+            self.unchanged(back, question, led)
+            self.unchanged(back, question, led[:-1])
+
+    def test_cases(self):
+        for rows in ([(1, 2), (-1, 2)], [(1, 2), (-1, 2), (-2,)], []):
+            self.unchanged(tried, ("clauses", 2, rows))
+            self.unchanged(shows, ("clauses", 2, rows), ("name", 0, ("row", 1), ("row", 0)))
+        self.unchanged(tried, ("clauses", 11, [(1, 2)]))
+
+    def test_webs(self):
+        for word, deed in [("friends", friends_hold), ("strangers", strangers_hold), ("cover", cover_holds),
+                           ("sets", sets_hold)]:
+            for answer in ([], [0], [0, 1], [0, 2], [1, 0], [-1], [3]):
+                self.unchanged(deed, (word, 3, [(0, 1), (0, 2), (1, 2)], 1), answer)
+        self.unchanged(others, 4, [(0, 1), (2, 3)])
 
 
 class GivenBack(unittest.TestCase):
@@ -86,15 +128,92 @@ class GivenBack(unittest.TestCase):
         names[0] = "b"
         self.assertEqual("b", shown(names, A))
 
+    def own(self, deed, *handed):
+        """The lists within what is given back are new ones, and the asker may do to them as they like."""
+        first = deed(*handed)
+        kept = copy.deepcopy(first)
+        second = deed(*handed)
+        self.assertEqual(kept, second)
+        given = lists_within(first)
+        self.assertNotEqual([], given)
+        for one in given:
+            for other in lists_within(list(handed)) + lists_within(second):
+                self.assertIsNot(one, other)
+            one.reverse()
+            one.append("other")
+        self.assertEqual(kept, second)
+        self.assertEqual(kept, deed(*handed))
+
+    def test_turnings(self):
+        self.own(turn_naming, ("wish", 3, FORMULA))
+        self.own(turn_naming, ("wish", 1, A))
+        self.own(turn_splitting, ("clauses", 4, [(1, 2, 3), (1, 2, 3, 4)]))
+        self.own(turn_splitting, ("clauses", 3, [(1, 2, 3)]))
+        self.own(turn_splitting, ("clauses", 3, []))
+
+    def test_answers_led_forth_and_back(self):
+        self.own(forth_naming, ("wish", 3, FORMULA), [True, False, False])
+        self.own(back_naming, ("wish", 3, FORMULA), [True, False, False, True, True])
+        self.own(forth_splitting, ("clauses", 4, [(1, 2, 3, 4)]), [True] * 4)
+        self.own(back_splitting, ("clauses", 4, [(1, 2, 3, 4)]), [True] * 5)
+        # No new names: the list that is led on could be given back as it is.
+        self.own(forth_naming, ("wish", 1, A), [True])
+        self.own(back_naming, ("wish", 1, A), [True])
+        self.own(forth_splitting, ("clauses", 2, [(1, 2)]), [True, False])
+        self.own(back_splitting, ("clauses", 2, [(1, 2)]), [True, False])
+
+    def test_answers_tried(self):
+        for n, rows in [(0, []), (2, []), (2, [(1, 2), (-1,)]), (10, [(10, 1)])]:
+            self.own(tried, ("clauses", n, rows))
+
+    def test_other_pairs(self):
+        self.own(others, 4, [(0, 1), (2, 3)])
+        self.own(others, 3, [])
+        self.own(others, 2, [(0, 1)])
+
+    def test_rows_changed_after_they_were_handed_in(self):
+        rows = [(1, 2, 3)]
+        question = ("clauses", 3, rows)
+        turned = turn_splitting(question)
+        rows[0] = (-1,)
+        rows.append((2, 2))
+        self.assertEqual(("threes", 3, [(1, 2, 3)]), turned)
+        self.assertEqual(("threes", 3, [(-1, -1, -1), (2, 2, 2)]), turn_splitting(question))
+        self.assertEqual([False, True, True], forth_splitting(question, [False, True, True]))
+        self.assertIs(True, shows(("clauses", 3, rows + [()]), ("row", 2)))
+        self.assertEqual([False, True], tried(question)[1][:2])
+        rows.append(())
+        self.assertEqual(("no", ("row", 2)), tried(question))
+        rows.pop()
+        self.assertEqual([False, True], tried(question)[1][:2])
+
+    def test_answers_changed_after_they_were_handed_in(self):
+        answer = [True]
+        led = forth_naming(("wish", 1, A), answer)
+        back = back_naming(("wish", 1, A), answer)
+        answer[0] = False
+        self.assertEqual(([True], [True]), (led, back))
+
+    def test_webs_changed_between_two_questions(self):
+        pairs = [(0, 1)]
+        self.assertIs(True, friends_hold(("friends", 3, pairs, 2), [0, 1]))
+        self.assertEqual([(0, 2), (1, 2)], others(3, pairs))
+        pairs[0] = (1, 2)
+        self.assertIs(False, friends_hold(("friends", 3, pairs, 2), [0, 1]))
+        self.assertIs(True, strangers_hold(("strangers", 3, pairs, 2), [0, 1]))
+        self.assertIs(False, cover_holds(("cover", 3, pairs, 2), [0]))
+        self.assertEqual([(0, 1), (0, 2)], others(3, pairs))
+        groups = [(0,)]
+        self.assertIs(True, sets_hold(("sets", 1, groups, 1), [0]))
+        groups[0] = ()
+        self.assertIs(False, sets_hold(("sets", 1, groups, 1), [0]))
+
 
 class GreatFormulas(unittest.TestCase):
     def test_150_parts_and_somewhat_more(self):
         for many in (150, 180):
-            row = [("name", k) for k in range(many // 2)]
-            while len(row) > 1:
-                row = [("or", *row[k:k + 2]) if k + 1 < len(row) else row[k] for k in range(0, len(row), 2)]
-            formula = ("not", row[0])
             names = many // 2
+            formula = ("not", great_or(names))
             self.assertEqual(many, parts(formula))
             self.assertIs(True, value(formula, [False] * names))
             for k in range(names):

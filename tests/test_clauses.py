@@ -1,13 +1,9 @@
 """Points 7 and 8: signs, clauses and threes, and when a list of truths holds (with point 3)."""
 
-import itertools
 import unittest
 
 from chainturn.clauses import clauses_hold, right
-
-
-def all_truths(n):
-    return [list(row) for row in itertools.product([False, True], repeat=n)]
+from helping import all_truths
 
 
 class Signs(unittest.TestCase):

@@ -1,9 +1,9 @@
 """Point 4: formulas, their parts, and when a list of truths holds for a wish (with point 3)."""
 
-import itertools
 import unittest
 
 from chainturn.wishes import parts, value, wish_holds
+from helping import all_truths
 
 A = ("name", 0)
 B = ("name", 1)
@@ -32,10 +32,6 @@ FORMULAS = [
     (("or", ("not", A), A), 1, 4, lambda a: True),
     (("or", ("and", A, ("not", B)), ("and", ("not", A), B)), 2, 9, lambda a, b: a != b),
 ]
-
-
-def all_truths(n):
-    return [list(row) for row in itertools.product([False, True], repeat=n)]
 
 
 class Values(unittest.TestCase):
