@@ -5,9 +5,14 @@ import unittest
 
 from chainturn.cases import shows, tried
 from chainturn.clauses import clauses_hold, right
+from chainturn.colours import back_saying, colours_hold, forth_saying, turn_saying
+from chainturn.covers import back_rest, back_ties, back_turning_over, forth_rest, forth_ties, forth_turning_over
+from chainturn.covers import turn_rest, turn_ties, turn_turning_over
 from chainturn.errors import ChainError
+from chainturn.meeting import back_meeting, forth_meeting, turn_meeting
 from chainturn.naming import back_naming, forth_naming, turn_naming
 from chainturn.reading import read, shown
+from chainturn.seats import back_seats, forth_seats, turn_seats
 from chainturn.splitting import back_splitting, forth_splitting, turn_splitting
 from chainturn.webs import cover_holds, friends_hold, others, sets_hold, strangers_hold
 from chainturn.wishes import parts, value, wish_holds
@@ -15,6 +20,16 @@ from helping import great_or
 
 A = ("name", 0)
 FORMULA = ("or", ("and", A, ("not", ("name", 1))), ("name", 2))
+
+# Of each turning of webs and colours: its three functions, a question, an answer that holds and one that does not.
+TURNINGS = [
+    (turn_meeting, forth_meeting, back_meeting, ("clauses", 2, [(1, 2), (-1, 2), (1, 1)]), [True, True], [True, False]),
+    (turn_turning_over, forth_turning_over, back_turning_over, ("friends", 3, [(0, 1)], 2), [0, 1], [0, 2]),
+    (turn_rest, forth_rest, back_rest, ("strangers", 3, [(0, 1)], 2), [1, 2], [0, 1]),
+    (turn_ties, forth_ties, back_ties, ("cover", 3, [(0, 1), (1, 2)], 1), [1], [2]),
+    (turn_seats, forth_seats, back_seats, ("strangers", 3, [(0, 1)], 2), [1, 2], [0, 1]),
+    (turn_saying, forth_saying, back_saying, ("colours", 3, [(0, 1), (1, 2)]), [0, 1, 0], [0, 1, 1]),
+]
 
 
 def chain(word, steps, turned_round):
@@ -90,6 +105,19 @@ class HandedIn(unittest.TestCase):
             for answer in ([], [0], [0, 1], [0, 2], [1, 0], [-1], [3]):
                 self.unchanged(deed, (word, 3, [(0, 1), (0, 2), (1, 2)], 1), answer)
         self.unchanged(others, 4, [(0, 1), (2, 3)])
+
+    def test_colours(self):
+        for answer in ([], [0, 1], [0, 1, 2], [0, 0, 1], [2, 1, 0, 1], [0, 1, 3], [-1, 1, 0]):
+            self.unchanged(colours_hold, ("colours", 3, [(0, 1), (1, 2)]), answer)
+
+    def test_turnings_of_webs_and_colours(self):
+        for turn, forth, back, question, answer, wrong in TURNINGS:
+            led = forth(question, answer)
+            self.unchanged(turn, question)
+            for handed in (answer, wrong, answer + answer, []):
+                self.unchanged(forth, question, handed)
+            for handed in (led, led[:-1], led + led, led[::-1], []):
+                self.unchanged(back, question, handed)
 
 
 class GivenBack(unittest.TestCase):
@@ -170,6 +198,53 @@ class GivenBack(unittest.TestCase):
         self.own(others, 4, [(0, 1), (2, 3)])
         self.own(others, 3, [])
         self.own(others, 2, [(0, 1)])
+
+    def test_turnings_of_webs_and_colours(self):
+        for turn, forth, back, question, answer, _ in TURNINGS:
+            with self.subTest(turn=turn):
+                self.own(turn, question)
+                self.own(forth, question, answer)
+                self.own(back, question, forth(question, answer))
+
+    def test_webs_and_colours_of_nothing(self):
+        for turn, forth, back, question in [
+            (turn_meeting, forth_meeting, back_meeting, ("clauses", 0, [])),
+            (turn_turning_over, forth_turning_over, back_turning_over, ("friends", 0, [], 0)),
+            (turn_rest, forth_rest, back_rest, ("strangers", 0, [], 0)),
+            (turn_ties, forth_ties, back_ties, ("cover", 0, [], 0)),
+            (turn_seats, forth_seats, back_seats, ("strangers", 0, [], 0)),
+            (turn_saying, forth_saying, back_saying, ("colours", 0, [])),
+        ]:
+            with self.subTest(turn=turn):
+                self.own(turn, question)
+                self.own(forth, question, [])
+                self.own(back, question, [])
+
+    def test_questions_changed_between_two_questions(self):
+        for turn, forth, back, question, answer, _ in TURNINGS:
+            with self.subTest(turn=turn):
+                held = copy.deepcopy(question)
+                told = (turn(question), forth(question, answer), back(question, forth(question, answer)))
+                kept = copy.deepcopy(told)
+                question[2].clear()
+                self.assertEqual(turn((*held[:2], [], *held[3:])), turn(question))
+                self.assertEqual(kept, told)
+                question[2].extend(held[2])
+                self.assertEqual(held, question)
+                self.assertEqual(kept, (turn(question), forth(question, answer), back(question, kept[1])))
+
+    def test_choices_changed_after_they_were_handed_in(self):
+        for _, forth, back, question, answer, _ in TURNINGS:
+            with self.subTest(forth=forth):
+                handed = list(answer)
+                led = forth(question, handed)
+                kept = list(led)
+                handed.clear()
+                self.assertEqual(kept, led)
+                answered = back(question, led)
+                kept = list(answered)
+                led.clear()
+                self.assertEqual(kept, answered)
 
     def test_rows_changed_after_they_were_handed_in(self):
         rows = [(1, 2, 3)]

@@ -134,6 +134,37 @@ class Language(unittest.TestCase):
                 if isinstance(node, ast.Call) and isinstance(node.func, ast.Attribute):
                     self.assertIn(node.func.attr, METHODS + own, (name, node.lineno))
 
+    def test_no_local_is_called_like_a_class_or_an_import(self):
+        for name, tree in trees():
+            taken = [alias.name for node in tree.body if isinstance(node, ast.ImportFrom) for alias in node.names]
+            taken.extend(node.name for node in tree.body if isinstance(node, ast.ClassDef))
+            for node in ast.walk(tree):
+                if isinstance(node, ast.Name) and isinstance(node.ctx, ast.Store):
+                    self.assertNotIn(node.id, taken, (name, node.lineno))
+                if isinstance(node, ast.arg):
+                    self.assertNotIn(node.arg, taken, (name, node.lineno))
+
+    def test_no_name_is_a_method_and_a_value(self):
+        methods = []
+        stored = []
+        for _, tree in trees():
+            for node in ast.walk(tree):
+                if isinstance(node, ast.ClassDef):
+                    methods.extend(part.name for part in node.body if isinstance(part, ast.FunctionDef))
+                if isinstance(node, ast.Attribute) and isinstance(node.ctx, ast.Store):
+                    stored.append(node.attr)
+        self.assertEqual(set(), set(methods) & set(stored))
+
+    def test_powers_and_is(self):
+        for name, tree in trees():
+            for node in ast.walk(tree):
+                if isinstance(node, ast.BinOp) and isinstance(node.op, ast.Pow):
+                    self.assertIsInstance(node.right, ast.Constant, (name, node.lineno))
+                    self.assertTrue(0 <= node.right.value <= 64, (name, node.lineno))
+                if isinstance(node, ast.Compare) and isinstance(node.ops[0], (ast.Is, ast.IsNot)):
+                    beside = [side.value for side in [node.left] + node.comparators if isinstance(side, ast.Constant)]
+                    self.assertTrue(any(side is None or isinstance(side, bool) for side in beside), (name, node.lineno))
+
     def test_no_two_files_draw_from_one_another(self):
         drawn = {}
         for name, tree in trees():

@@ -4,29 +4,7 @@ import itertools
 import unittest
 
 from chainturn.webs import cover_holds, friends_hold, others, sets_hold, strangers_hold
-from helping import all_choices
-
-
-def all_webs(n):
-    pairs = list(itertools.combinations(range(n), 2))
-    return [[pairs[e] for e in chosen] for chosen in all_choices(len(pairs))]
-
-
-def are_friends(n, pairs, k, choice):
-    return len(choice) >= k and all(two in pairs for two in itertools.combinations(choice, 2))
-
-
-def are_strangers(n, pairs, k, choice):
-    return len(choice) >= k and not any(two in pairs for two in itertools.combinations(choice, 2))
-
-
-def is_cover(n, pairs, k, choice):
-    return len(choice) <= k and all(i in choice or j in choice for i, j in pairs)
-
-
-def are_sets(n, groups, k, choice):
-    return len(choice) <= k and set(range(n)) == set(thing for g in choice for thing in groups[g])
-
+from helping import all_choices, all_webs, are_friends, are_sets, are_strangers, is_cover
 
 WEBS = [("friends", friends_hold, are_friends), ("strangers", strangers_hold, are_strangers),
         ("cover", cover_holds, is_cover)]
