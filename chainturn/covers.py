@@ -1,7 +1,7 @@
 """Friends turned to strangers, strangers to covers, and covers to sets."""
 
-from chainturn.answers import refuse_unless
-from chainturn.webs import cover_holds, friends_hold, others, sets_hold, strangers_hold
+from chainturn.answers import not_chosen, refuse_unless
+from chainturn.webs import cover_holds, friends_hold, others, sets_hold, strangers_hold, ties_of
 
 
 def turn_turning_over(question):
@@ -44,16 +44,3 @@ def forth_ties(question, answer):
 def back_ties(question, answer):
     refuse_unless(sets_hold(turn_ties(question), answer))
     return list(answer)
-
-
-def not_chosen(n, choice):
-    chosen = dict([(person, True) for person in choice])
-    return [person for person in range(n) if person not in chosen]
-
-
-def ties_of(n, pairs):
-    ties = [[] for person in range(n)]
-    for place, pair in enumerate(pairs):
-        for person in pair:
-            ties[person].append(place)
-    return [tuple(places) for places in ties]

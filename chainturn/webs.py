@@ -27,11 +27,7 @@ def sets_hold(question, answer):
     groups = question[2]
     if not is_choice(answer, len(groups)) or len(answer) > question[3]:
         return False
-    found = [False] * question[1]
-    for number in answer:
-        for thing in groups[number]:
-            found[thing] = True
-    return all(found)
+    return 0 not in times_found(question[1], groups, answer)
 
 
 def others(n, pairs):
@@ -40,6 +36,22 @@ def others(n, pairs):
     for i in range(n):
         found.extend([(i, j) for j in range(i + 1, n) if (i, j) not in told])
     return found
+
+
+def ties_of(n, pairs):
+    ties = [[] for person in range(n)]
+    for place, pair in enumerate(pairs):
+        for person in pair:
+            ties[person].append(place)
+    return [tuple(places) for places in ties]
+
+
+def times_found(n, groups, choice):
+    times = [0] * n
+    for number in choice:
+        for thing in groups[number]:
+            times[thing] = times[thing] + 1
+    return times
 
 
 def ends_chosen(question, answer):

@@ -9,11 +9,17 @@ from chainturn.colours import back_saying, colours_hold, forth_saying, turn_sayi
 from chainturn.covers import back_rest, back_ties, back_turning_over, forth_rest, forth_ties, forth_turning_over
 from chainturn.covers import turn_rest, turn_ties, turn_turning_over
 from chainturn.errors import ChainError
+from chainturn.exact import back_columns, back_parting, exact_holds, forth_columns, forth_parting
+from chainturn.exact import turn_columns, turn_parting
+from chainturn.figures import back_figures, forth_figures, turn_figures
 from chainturn.meeting import back_meeting, forth_meeting, turn_meeting
 from chainturn.naming import back_naming, forth_naming, turn_naming
+from chainturn.painting import back_painting, forth_painting, turn_painting
 from chainturn.reading import read, shown
 from chainturn.seats import back_seats, forth_seats, turn_seats
 from chainturn.splitting import back_splitting, forth_splitting, turn_splitting
+from chainturn.sums import back_evening, back_packing, boxes_hold, forth_evening, forth_packing, halves_hold, sums_hold
+from chainturn.sums import turn_evening, turn_packing
 from chainturn.webs import cover_holds, friends_hold, others, sets_hold, strangers_hold
 from chainturn.wishes import parts, value, wish_holds
 from helping import great_or
@@ -21,14 +27,36 @@ from helping import great_or
 A = ("name", 0)
 FORMULA = ("or", ("and", A, ("not", ("name", 1))), ("name", 2))
 
-# Of each turning of webs and colours: its three functions, a question, an answer that holds and one that does not.
+# Of each turning behind splitting: its three functions, a question, an answer that holds and one that does not.
 TURNINGS = [
     (turn_meeting, forth_meeting, back_meeting, ("clauses", 2, [(1, 2), (-1, 2), (1, 1)]), [True, True], [True, False]),
     (turn_turning_over, forth_turning_over, back_turning_over, ("friends", 3, [(0, 1)], 2), [0, 1], [0, 2]),
     (turn_rest, forth_rest, back_rest, ("strangers", 3, [(0, 1)], 2), [1, 2], [0, 1]),
     (turn_ties, forth_ties, back_ties, ("cover", 3, [(0, 1), (1, 2)], 1), [1], [2]),
     (turn_seats, forth_seats, back_seats, ("strangers", 3, [(0, 1)], 2), [1, 2], [0, 1]),
+    (turn_painting, forth_painting, back_painting, ("threes", 2, [(1, 2, 2), (-1, 2, 1)]), [True, False], [False] * 2),
     (turn_saying, forth_saying, back_saying, ("colours", 3, [(0, 1), (1, 2)]), [0, 1, 0], [0, 1, 1]),
+    (turn_parting, forth_parting, back_parting, ("colours", 3, [(0, 1), (1, 2)]), [0, 1, 0], [0, 1, 1]),
+    (turn_columns, forth_columns, back_columns, ("exact", 3, [(0, 1), (1,), (2,)]), [0, 2], [1, 2]),
+    (turn_figures, forth_figures, back_figures, ("threes", 2, [(1, 2, 2), (-1, 2, 1)]), [True, False], [False] * 2),
+    (turn_evening, forth_evening, back_evening, ("sums", [3, 5, 8], 8), [0, 1], [1, 2]),
+    (turn_packing, forth_packing, back_packing, ("halves", [3, 5, 8]), [0, 1], [1, 2]),
+]
+
+# Of each of these a question of nothing, for which the empty list holds.
+OF_NOTHING = [
+    (turn_meeting, forth_meeting, back_meeting, ("clauses", 0, [])),
+    (turn_turning_over, forth_turning_over, back_turning_over, ("friends", 0, [], 0)),
+    (turn_rest, forth_rest, back_rest, ("strangers", 0, [], 0)),
+    (turn_ties, forth_ties, back_ties, ("cover", 0, [], 0)),
+    (turn_seats, forth_seats, back_seats, ("strangers", 0, [], 0)),
+    (turn_painting, forth_painting, back_painting, ("threes", 0, [])),
+    (turn_saying, forth_saying, back_saying, ("colours", 0, [])),
+    (turn_parting, forth_parting, back_parting, ("colours", 0, [])),
+    (turn_columns, forth_columns, back_columns, ("exact", 0, [])),
+    (turn_figures, forth_figures, back_figures, ("threes", 0, [])),
+    (turn_evening, forth_evening, back_evening, ("sums", [], 0)),
+    (turn_packing, forth_packing, back_packing, ("halves", [])),
 ]
 
 
@@ -110,7 +138,14 @@ class HandedIn(unittest.TestCase):
         for answer in ([], [0, 1], [0, 1, 2], [0, 0, 1], [2, 1, 0, 1], [0, 1, 3], [-1, 1, 0]):
             self.unchanged(colours_hold, ("colours", 3, [(0, 1), (1, 2)]), answer)
 
-    def test_turnings_of_webs_and_colours(self):
+    def test_exact_choices_and_sums(self):
+        for answer in ([], [0], [0, 2], [0, 1], [2, 0], [0, 0], [-1], [0, 3], [0, 1, 0], [0, 0, 0, 0]):
+            self.unchanged(exact_holds, ("exact", 3, [(0, 1), (1,), (2,)]), answer)
+            self.unchanged(sums_hold, ("sums", [3, 5, 8], 11), answer)
+            self.unchanged(halves_hold, ("halves", [3, 5, 8]), answer)
+            self.unchanged(boxes_hold, ("boxes", [3, 5, 8], 11, 2), answer)
+
+    def test_turnings_behind_splitting(self):
         for turn, forth, back, question, answer, wrong in TURNINGS:
             led = forth(question, answer)
             self.unchanged(turn, question)
@@ -199,26 +234,25 @@ class GivenBack(unittest.TestCase):
         self.own(others, 3, [])
         self.own(others, 2, [(0, 1)])
 
-    def test_turnings_of_webs_and_colours(self):
+    def test_turnings_behind_splitting(self):
         for turn, forth, back, question, answer, _ in TURNINGS:
             with self.subTest(turn=turn):
                 self.own(turn, question)
                 self.own(forth, question, answer)
                 self.own(back, question, forth(question, answer))
 
-    def test_webs_and_colours_of_nothing(self):
-        for turn, forth, back, question in [
-            (turn_meeting, forth_meeting, back_meeting, ("clauses", 0, [])),
-            (turn_turning_over, forth_turning_over, back_turning_over, ("friends", 0, [], 0)),
-            (turn_rest, forth_rest, back_rest, ("strangers", 0, [], 0)),
-            (turn_ties, forth_ties, back_ties, ("cover", 0, [], 0)),
-            (turn_seats, forth_seats, back_seats, ("strangers", 0, [], 0)),
-            (turn_saying, forth_saying, back_saying, ("colours", 0, [])),
-        ]:
+    def test_questions_of_nothing(self):
+        for turn, forth, back, question in OF_NOTHING:
             with self.subTest(turn=turn):
                 self.own(turn, question)
                 self.own(forth, question, [])
-                self.own(back, question, [])
+                self.own(back, question, forth(question, []))
+
+    def test_either_side_and_a_goal_above_the_sum(self):
+        self.own(turn_evening, ("sums", [3, 5, 8], 99))
+        self.own(turn_evening, ("sums", [], 1))
+        self.own(back_evening, ("sums", [3, 5, 8], 8), [0, 1, 3])
+        self.own(back_evening, ("sums", [3, 5, 8], 8), [2, 4])
 
     def test_questions_changed_between_two_questions(self):
         for turn, forth, back, question, answer, _ in TURNINGS:
@@ -226,10 +260,12 @@ class GivenBack(unittest.TestCase):
                 held = copy.deepcopy(question)
                 told = (turn(question), forth(question, answer), back(question, forth(question, answer)))
                 kept = copy.deepcopy(told)
-                question[2].clear()
-                self.assertEqual(turn((*held[:2], [], *held[3:])), turn(question))
+                within = lists_within(question)[0]
+                members = list(within)
+                within.clear()
+                self.assertEqual(turn(tuple([] if isinstance(part, list) else part for part in held)), turn(question))
                 self.assertEqual(kept, told)
-                question[2].extend(held[2])
+                within.extend(members)
                 self.assertEqual(held, question)
                 self.assertEqual(kept, (turn(question), forth(question, answer), back(question, kept[1])))
 
@@ -282,6 +318,20 @@ class GivenBack(unittest.TestCase):
         self.assertIs(True, sets_hold(("sets", 1, groups, 1), [0]))
         groups[0] = ()
         self.assertIs(False, sets_hold(("sets", 1, groups, 1), [0]))
+
+    def test_groups_and_numbers_changed_between_two_questions(self):
+        groups = [(0,)]
+        self.assertIs(True, exact_holds(("exact", 1, groups), [0]))
+        groups[0] = ()
+        self.assertIs(False, exact_holds(("exact", 1, groups), [0]))
+        numbers = [3, 5, 8]
+        self.assertIs(True, sums_hold(("sums", numbers, 8), [2]))
+        self.assertIs(True, halves_hold(("halves", numbers), [2]))
+        self.assertIs(True, boxes_hold(("boxes", numbers, 8, 2), [0, 0, 1]))
+        numbers[2] = 9
+        self.assertIs(False, sums_hold(("sums", numbers, 8), [2]))
+        self.assertIs(False, halves_hold(("halves", numbers), [2]))
+        self.assertIs(False, boxes_hold(("boxes", numbers, 8, 2), [0, 0, 1]))
 
 
 class GreatFormulas(unittest.TestCase):

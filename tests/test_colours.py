@@ -5,21 +5,7 @@ import unittest
 
 from chainturn.clauses import clauses_hold
 from chainturn.colours import back_saying, colours_hold, forth_saying, turn_saying
-from helping import ClausesGiven, Refusing, all_truths, all_webs, clauses_are_true
-
-
-def are_colours(n, pairs, numbers):
-    """The words of point 18 once more, apart from the program."""
-    return (len(numbers) == n and all(number in (0, 1, 2) for number in numbers)
-            and not any(numbers[i] == numbers[j] for i, j in pairs))
-
-
-def all_lists(n):
-    return [list(row) for row in itertools.product(range(3), repeat=n)]
-
-
-def all_webs_up_to(most):
-    return [(n, pairs) for n in range(most + 1) for pairs in all_webs(n)]
+from helping import ClausesGiven, Refusing, all_colours, all_truths, all_webs_up_to, are_colours, clauses_are_true
 
 
 class Holding(unittest.TestCase):
@@ -46,7 +32,7 @@ class Holding(unittest.TestCase):
 
     def test_no_pairs(self):
         self.holds(1, [], [[0], [1], [2]])
-        self.holds(3, [], all_lists(3))
+        self.holds(3, [], all_colours(3))
 
     def test_no_things(self):
         self.holds(0, [], [[]])
@@ -69,7 +55,7 @@ class Holding(unittest.TestCase):
 
     def test_all_small(self):
         for n, pairs in all_webs_up_to(4):
-            for answer in all_lists(n):
+            for answer in all_colours(n):
                 if colours_hold(("colours", n, pairs), answer) is not are_colours(n, pairs, answer):
                     self.fail(f"{n}, {pairs}: {answer}")
 
@@ -129,7 +115,7 @@ class Answers(unittest.TestCase):
         for n, pairs in all_webs_up_to(4):
             question = ("colours", n, pairs)
             turned = turn_saying(question)
-            for answer in all_lists(n):
+            for answer in all_colours(n):
                 if are_colours(n, pairs, answer):
                     led = forth_saying(question, answer)
                     self.assertEqual([answer[v] == c for v in range(n) for c in range(3)], led)
@@ -163,7 +149,7 @@ class Answers(unittest.TestCase):
                     self.assertTrue(are_colours(n, pairs, back))
                     met.append(back)
                     led_back = led_back + 1
-            for answer in all_lists(n):
+            for answer in all_colours(n):
                 self.assertEqual(are_colours(n, pairs, answer), answer in met)
         self.assertGreater(led_back, 500)
 

@@ -165,6 +165,43 @@ class Language(unittest.TestCase):
                     beside = [side.value for side in [node.left] + node.comparators if isinstance(side, ast.Constant)]
                     self.assertTrue(any(side is None or isinstance(side, bool) for side in beside), (name, node.lineno))
 
+    def test_sets_are_asked_on_the_spot(self):
+        for name, tree in trees():
+            allowed = []
+            for node in ast.walk(tree):
+                if isinstance(node, ast.Call) and isinstance(node.func, ast.Name) and node.func.id in ("sorted", "len"):
+                    allowed.extend(node.args)
+                if isinstance(node, ast.Compare) and isinstance(node.ops[0], (ast.In, ast.NotIn, ast.Eq, ast.NotEq)):
+                    allowed.extend([node.left] + node.comparators)
+            for node in ast.walk(tree):
+                if isinstance(node, ast.Call) and isinstance(node.func, ast.Name) and node.func.id == "set":
+                    self.assertIn(node, allowed, (name, node.lineno))
+                self.assertNotIsInstance(node, ast.Set, (name, getattr(node, "lineno", 0)))
+
+    def test_lists_and_dicts_of_a_files_top_are_plain_and_only_read(self):
+        for name, tree in trees():
+            tops = []
+            for node in tree.body:
+                if isinstance(node, ast.Assign) and isinstance(node.value, (ast.List, ast.Dict)):
+                    tops.append(node.targets[0].id)
+                    for part in list(ast.walk(node.value))[1:]:
+                        self.assertNotIsInstance(part, (ast.List, ast.Dict, ast.Call), (name, node.lineno))
+            read = []
+            for node in ast.walk(tree):
+                if isinstance(node, ast.Subscript) and isinstance(node.ctx, ast.Load):
+                    read.append(node.value)
+                if isinstance(node, (ast.For, ast.comprehension)):
+                    read.append(node.iter)
+                if isinstance(node, ast.Compare):
+                    read.extend([node.left] + node.comparators)
+                if isinstance(node, ast.Call) and isinstance(node.func, ast.Name):
+                    read.extend(node.args if node.func.id in ("len", "list", "dict", "tuple", "sorted") else [])
+                if isinstance(node, ast.Attribute) and node.attr in ("get", "index", "count"):
+                    read.append(node.value)
+            for node in ast.walk(tree):
+                if isinstance(node, ast.Name) and isinstance(node.ctx, ast.Load) and node.id in tops:
+                    self.assertIn(node, read, (name, node.lineno))
+
     def test_no_two_files_draw_from_one_another(self):
         drawn = {}
         for name, tree in trees():

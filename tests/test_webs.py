@@ -4,22 +4,10 @@ import itertools
 import unittest
 
 from chainturn.webs import cover_holds, friends_hold, others, sets_hold, strangers_hold
-from helping import all_choices, all_webs, are_friends, are_sets, are_strangers, is_cover
+from helping import Holding, all_choices, all_webs, are_friends, are_sets, are_strangers, is_cover
 
 WEBS = [("friends", friends_hold, are_friends), ("strangers", strangers_hold, are_strangers),
         ("cover", cover_holds, is_cover)]
-
-
-class Holding(unittest.TestCase):
-    def holds(self, deed, question, answers):
-        for answer in answers:
-            with self.subTest(question=question, answer=answer):
-                self.assertIs(True, deed(question, answer))
-
-    def fails(self, deed, question, answers):
-        for answer in answers:
-            with self.subTest(question=question, answer=answer):
-                self.assertIs(False, deed(question, answer))
 
 
 class Friends(Holding):
